@@ -15,7 +15,7 @@ func TestZerosOneByOne(t *testing.T) {
 	}
 }
 
-// Each of these was found by taking so many bytes one by one.
+// The great ones were found once by hash/crc32, over all these bytes.
 func TestZerosThatAreKnown(t *testing.T) {
 	for n, want := range map[int]uint32{
 		0:         0,
