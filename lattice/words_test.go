@@ -9,8 +9,9 @@ import (
 	"sackbut/api"
 )
 
-// What follows tells the chapter's words over again, in numbers without an
-// end, so that nothing of it leans on how the package reckons.
+// What follows tells the chapter's words over again. What is multiplied and
+// rounded is in numbers without an end, so that no wrap-round of the package's
+// is hidden by the same one here.
 
 // roundWords is the rounded part of a product.
 func roundWords(p *big.Int) *big.Int {
