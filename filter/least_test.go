@@ -7,6 +7,7 @@ import (
 	"testing"
 
 	"sackbut/api"
+	"sackbut/wide"
 )
 
 // growing is an index list whose predictions go farther off with each index,
@@ -137,19 +138,11 @@ func TestLeastOfSumsThatHaveNoRoomIn64Bits(t *testing.T) {
 }
 
 func TestSizes(t *testing.T) {
-	sum := size{}
-	for range 6 {
-		sum = sum.plus(math.MinInt).plus(math.MaxInt).plus(-1).plus(2)
-	}
-	if sum != (size{6, 12}) {
-		t.Errorf("P7.1: a sum beyond 64 bits: %v", sum)
-	}
-	rising := []size{{0, 0}, {0, 1}, {0, math.MaxUint64}, {1, 0}, {1, 5}, {2, 0}, {2, 4}}
-	for i, a := range rising {
-		for j, b := range rising {
-			if a.less(b) != (i < j) {
-				t.Errorf("P7.1: is %v less than %v: %v", a, b, a.less(b))
-			}
+	l := []int{math.MinInt, 5, math.MaxInt, 0, -7}
+	tell := func(place int) int { return l[place] }
+	for count, want := range []wide.Sum{{}, {Low: 1 << 63}, {Low: 1<<63 + 5}, {High: 1, Low: 4}, {High: 1, Low: 4}, {High: 1, Low: 11}} {
+		if got := sizes(count, tell); got != want {
+			t.Errorf("P7.1: the sum of the first %d sizes: %v, want %v", count, got, want)
 		}
 	}
 }

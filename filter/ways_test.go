@@ -7,6 +7,8 @@ import (
 	"go/token"
 	"math/rand"
 	"testing"
+
+	"sackbut/wide"
 )
 
 func TestTrialsComeOutInOrder(t *testing.T) {
@@ -14,12 +16,12 @@ func TestTrialsComeOutInOrder(t *testing.T) {
 	for range 200 {
 		h := &trials{}
 		for _, n := range rnd.Perm(17) {
-			heap.Push(h, trial{n, size{rnd.Uint64() % 2, rnd.Uint64() % 3}})
+			heap.Push(h, trial{n, wide.Sum{High: rnd.Uint64() % 2, Low: rnd.Uint64() % 3}})
 		}
 		last := h.first()
 		for h.Len() > 0 {
 			next := h.first()
-			if next.sum.less(last.sum) || next.sum == last.sum && next.indices <= last.indices {
+			if next.sum.Less(last.sum) || next.sum == last.sum && next.indices <= last.indices {
 				t.Fatalf("Ways: %v comes behind %v", next, last)
 			}
 			last = next
